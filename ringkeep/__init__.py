@@ -1,0 +1,1 @@
+"""Ringkeep: keys on a ring, kept by hands that come, go and fall."""
