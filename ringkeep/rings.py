@@ -100,3 +100,13 @@ def went(ring, hand):
     if len(hands) == 1:
         raise NoHand(f"the hand at {hand!r} is the last one")
     return (ring[0], tuple([other for other in hands if other != hand]))
+
+
+def fell(ring, hands):
+    for hand in hands:
+        if hand not in ring[1]:
+            raise NoHand(f"there is no hand at {hand!r}")
+    rest = tuple([hand for hand in ring[1] if hand not in hands])
+    if len(rest) == 0:
+        raise NoHand(f"{hands!r} are all the hands there are")
+    return (ring[0], rest)

@@ -173,6 +173,29 @@ class Language(unittest.TestCase):
                 if isinstance(node, ast.Name) and isinstance(node.ctx, ast.Store):
                     self.assertNotIn(node.id, taken, self.where(file, node))
 
+    def test_values_of_objects(self):
+        bodies = [part for _, node in nodes(ast.ClassDef) for part in node.body]
+        methods = {part.name for part in bodies if isinstance(part, ast.FunctionDef)}
+        taken = {name for kind in (str, int, list, dict, set, tuple, bytes) for name in dir(kind)}
+        for file, node in nodes(ast.Attribute):
+            if isinstance(node.ctx, ast.Store):
+                self.assertNotIn(node.attr, methods, self.where(file, node))
+                self.assertNotIn(node.attr, taken, self.where(file, node))
+        for file, node in nodes(ast.ClassDef):
+            names = [part.name for part in node.body if isinstance(part, ast.FunctionDef)]
+            self.assertEqual(len(names), len(set(names)), self.where(file, node))
+            for name in names:
+                self.assertTrue(name not in taken or name in OWN_METHODS or name in TWO_UNDERSCORES, name)
+
+    def test_walked_at_once(self):
+        walkers = ("zip", "enumerate", "reversed", "range")
+        kept = (ast.Assign, ast.Return)
+        for file, node in nodes(kept):
+            if isinstance(node.value, ast.Call):
+                called = node.value.func
+                self.assertNotIn(getattr(called, "id", ""), walkers + ("set",), self.where(file, node))
+                self.assertNotIn(getattr(called, "attr", ""), ("items", "keys", "values"), self.where(file, node))
+
     def test_methods_called(self):
         own = defined_names()
         for file, node in nodes(ast.Call):

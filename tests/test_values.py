@@ -3,6 +3,10 @@
 import copy
 import unittest
 
+from ringkeep.crowds import Crowd
+from ringkeep.errors import NoKey
+from ringkeep.keeps import Keep
+from ringkeep.losses import count_losing, lost_by, safe_falls
 from ringkeep.rings import came, holders, home_of, how_far, is_ring, next_hand, span_of, went
 from ringkeep.routes import fingers, most_hops, route
 from tests.walks import large_rings, small_rings, spots_of
@@ -20,10 +24,13 @@ def calls_on(ring):
     calls += [(came, (ring, spot), tuple) for spot in free[:2]]
     if len(ring[1]) > 1:
         calls.append((went, (ring, hand), tuple))
+    for copies in (1, 3):
+        calls += [(lost_by, (ring, copies, ring[1][:3]), tuple), (safe_falls, (ring, copies), int)]
+        calls.append((count_losing, (ring, copies, min(2, len(ring[1]))), int))
     return calls
 
 
-class Values(unittest.TestCase):
+class Plain(unittest.TestCase):
     rings = small_rings()[::3] + [ring for ring in large_rings() if len(ring[1]) <= 16]
 
     def assert_plain(self, told):
@@ -31,7 +38,10 @@ class Values(unittest.TestCase):
             for part in told:
                 self.assert_plain(part)
         else:
-            self.assertIn(type(told), (int, bool, type(None)))
+            self.assertIn(type(told), (int, str, bool, type(None)))
+
+
+class Values(Plain):
 
     def test_told_are_plain_values_of_the_kind(self):
         for ring in self.rings:
@@ -64,6 +74,99 @@ class Values(unittest.TestCase):
             twin = (ring[0], tuple(list(ring[1])))
             for (function, given, _), (_, others, _) in zip(calls_on(ring), calls_on(twin)):
                 self.assertEqual(function(*given), function(*others))
+
+
+def asked_of_keep(keep, ring):
+    hands = keep.ring()[1]
+    calls = [(keep.ring, (), tuple)]
+    calls += [(keep.has, (hand,), tuple) for hand in hands]
+    for key in range(0, spots_of(ring), 3):
+        calls += [(keep.keepers, (key,), tuple)] + ([(keep.get, (key,), int)] if keep.keepers(key) else [])
+    return calls
+
+
+def acts_of_keep(keep, ring):
+    """Acts that are not refused, each made when the one ahead of it is done."""
+    for key in range(0, spots_of(ring), 2):
+        yield keep.put, (key, key - 5), type(None)
+    if len(ring[1]) > 2:
+        yield keep.fall, (ring[1][:2],), tuple
+    yield keep.mend, (), tuple
+    free = [spot for spot in range(spots_of(ring)) if spot not in keep.ring()[1]]
+    if free:
+        yield keep.come, (free[0],), tuple
+    if len(keep.ring()[1]) > 1:
+        yield keep.go, (keep.ring()[1][-1],), tuple
+    yield keep.put, (0, 99), type(None)
+
+
+def asked_of_crowd(crowd, ring):
+    calls = [(crowd.standing, (), tuple), (crowd.settled, (), bool)]
+    for hand in crowd.standing():
+        calls += [(crowd.knows, (hand,), tuple), (crowd.points, (hand,), tuple)]
+        calls += [(crowd.find, (hand, key), tuple) for key in range(0, spots_of(ring), 5)]
+    return calls
+
+
+def acts_of_crowd(crowd, ring):
+    if len(ring[1]) > 2:
+        yield crowd.fall, (ring[1][:2],), type(None)
+    free = [spot for spot in range(spots_of(ring)) if spot not in crowd.standing()]
+    if free:
+        yield crowd.come, (free[-1], crowd.standing()[0]), tuple
+    for hand in crowd.standing():
+        yield crowd.tidy, (hand,), type(None)
+
+
+class KeepsAndCrowds(Plain):
+    def each(self):
+        """A new keep and a new crowd of each ring, with what may be asked of them and done to them."""
+        for ring in self.rings:
+            yield ring, Keep(ring, 2), asked_of_keep, acts_of_keep
+            yield ring, Crowd(ring, 2), asked_of_crowd, acts_of_crowd
+
+    def tell(self, act, given, kind):
+        told = act(*given)
+        self.assertIs(type(told), kind, act)
+        self.assert_plain(told)
+        return told
+
+    def test_told_is_plain_and_stays_as_it_was(self):
+        for ring, thing, asked, acts in self.each():
+            ring_as_it_was = repr(ring)
+            told = []
+            for act, given, kind in acts(thing, ring):
+                given_as_it_was = repr(given)
+                one = self.tell(act, given, kind)
+                self.assertEqual(repr(given), given_as_it_was)
+                told.append((one, repr(one)))
+                for ask, these, what in asked(thing, ring):
+                    one = self.tell(ask, these, what)
+                    told.append((one, repr(one)))
+            for one, as_it_was in told:
+                self.assertEqual(repr(one), as_it_was)
+            self.assertEqual(repr(ring), ring_as_it_was)
+
+    def test_asked_again_the_same_is_told(self):
+        for ring, thing, asked, acts in self.each():
+            for act, given, _ in acts(thing, ring):
+                act(*given)
+                calls = asked(thing, ring)
+                first = [ask(*these) for ask, these, _ in calls]
+                again = [ask(*these) for ask, these, _ in reversed(calls)]
+                self.assertEqual(again[::-1], first)
+
+    def test_the_same_done_again_tells_the_same(self):
+        for one, other in zip(self.each(), self.each()):
+            ring, thing, _, acts = one
+            told = [act(*given) for act, given, _ in acts(thing, ring)]
+            ring, thing, _, acts = other
+            self.assertEqual([act(*given) for act, given, _ in acts(thing, ring)], told)
+
+    def test_a_refusal_is_told_again(self):
+        keep = Keep((3, (1, 5)), 1)
+        for _ in range(3):
+            self.assertRaises(NoKey, keep.get, 4)
 
 
 if __name__ == "__main__":
