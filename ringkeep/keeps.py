@@ -32,6 +32,10 @@ def lines_of_key(ring, kept, key, takers):
     return lines
 
 
+def rising_pairs(own):
+    return tuple(sorted(own.items()))
+
+
 def hand_over(kept, paper):
     # All is sent before anything is dropped: a giver may have to drop what it gives.
     for line in paper:
@@ -66,7 +70,7 @@ class Keep:
     def has(self, hand):
         if hand not in self.kept:
             raise NoHand(f"there is no hand at {hand!r}")
-        return tuple(sorted(self.kept[hand].items()))
+        return rising_pairs(self.kept[hand])
 
     def keepers(self, key):
         return tuple([hand for hand in self.circle[1] if key in self.kept[hand]])
@@ -84,15 +88,22 @@ class Keep:
         return self.mend_toward(self.circle)
 
     def come(self, spot):
-        self.circle = came(self.circle, spot)
-        self.kept[spot] = {}
-        return self.mend()
+        return self.move_to(came(self.circle, spot))
 
     def go(self, hand):
-        target = went(self.circle, hand)
+        return self.move_to(went(self.circle, hand))
+
+    def move_to(self, target):
+        # Those that come are there to take, those that go are still there to give.
+        self.gather(target)
         paper = self.mend_toward(target)
         self.leave(target)
         return paper
+
+    def gather(self, target):
+        for hand in target[1]:
+            self.kept.setdefault(hand, {})
+        self.circle = (target[0], tuple(sorted(self.kept)))
 
     def fall(self, hands):
         target = fell(self.circle, hands)

@@ -84,10 +84,14 @@ def span_of(ring, hand):
     return (first, how_far(ring, first, hand) + 1)
 
 
-def came(ring, spot):
-    hands = ring[1]
+def must_be_spot(ring, spot):
     if spot < 0 or spot >= count_spots(ring):
         raise NoHand(f"{spot!r} is no spot of the ring")
+
+
+def came(ring, spot):
+    hands = ring[1]
+    must_be_spot(ring, spot)
     if spot in hands:
         raise NoHand(f"there is a hand at {spot!r} already")
     return (ring[0], tuple(sorted(hands + (spot,))))

@@ -6,27 +6,16 @@ import unittest
 
 from ringkeep.errors import NoHand, NoKey
 from ringkeep.keeps import Keep, first_keeper
-from tests.walks import WalkedKeep, all_rings, hands_met, large_rings, small_rings, spots_of
+from tests.walks import (
+    WalkedKeep, all_rings, choose_act, filled, free_spots, hands_met, keep_state, large_rings, small_rings, spots_of,
+)
 
 MIDDLE = [ring for ring in large_rings() if ring[0] == 4]
 KNOWN = (4, (0, 3, 5, 9, 14))
 
 
-def state(keep):
-    """All that can be asked of a keep."""
-    ring = keep.ring()
-    return ring, tuple(keep.has(hand) for hand in ring[1]), tuple(keep.keepers(key) for key in range(spots_of(ring)))
-
-
 def full(ring, copies, kind=Keep):
-    keep = kind(ring, copies)
-    for key in range(spots_of(ring)):
-        keep.put(key, 100 + key)
-    return keep
-
-
-def free_spots(ring):
-    return [spot for spot in range(spots_of(ring)) if spot not in ring[1]]
+    return filled(kind(ring, copies))
 
 
 class New(unittest.TestCase):
@@ -161,9 +150,9 @@ class Papers(unittest.TestCase):
         for ring in small_rings()[::7] + MIDDLE:
             for copies in range(1, 7):
                 keep = full(ring, copies)
-                before = state(keep)
+                before = keep_state(keep)
                 self.assertEqual(keep.mend(), ())
-                self.assertEqual(state(keep), before)
+                self.assertEqual(keep_state(keep), before)
 
     def test_mend_known(self):
         keep = Keep(KNOWN, 3)
@@ -234,33 +223,33 @@ class Papers(unittest.TestCase):
                 for spot in free_spots(ring):
                     keep, walked = full(ring, copies), full(ring, copies, WalkedKeep)
                     self.assertEqual(keep.come(spot), walked.come(spot))
-                    self.assertEqual(state(keep), state(walked))
+                    self.assertEqual(keep_state(keep), keep_state(walked))
                 for hand in ring[1] if len(ring[1]) > 1 else ():
                     keep, walked = full(ring, copies), full(ring, copies, WalkedKeep)
                     self.assertEqual(keep.go(hand), walked.go(hand))
-                    self.assertEqual(state(keep), state(walked))
+                    self.assertEqual(keep_state(keep), keep_state(walked))
 
     def test_refused_come_changes_nothing(self):
         for copies in (1, 3):
             keep = full(KNOWN, copies)
             keep.fall((9,))
-            before = state(keep)
+            before = keep_state(keep)
             for spot in (0, 3, 5, 14, -1, 16, 17, 1000, -16):
                 self.assertRaises(NoHand, keep.come, spot)
-                self.assertEqual(state(keep), before)
+                self.assertEqual(keep_state(keep), before)
 
     def test_refused_go_changes_nothing(self):
         for copies in (1, 3):
             keep = full(KNOWN, copies)
             keep.fall((9,))
-            before = state(keep)
+            before = keep_state(keep)
             for spot in (9, 1, 2, 15, -1, 16):
                 self.assertRaises(NoHand, keep.go, spot)
-                self.assertEqual(state(keep), before)
+                self.assertEqual(keep_state(keep), before)
         alone = full((3, (5,)), 2)
-        before = state(alone)
+        before = keep_state(alone)
         self.assertRaises(NoHand, alone.go, 5)
-        self.assertEqual(state(alone), before)
+        self.assertEqual(keep_state(alone), before)
 
 
 class Fall(unittest.TestCase):
@@ -278,9 +267,9 @@ class Fall(unittest.TestCase):
 
     def test_of_none(self):
         keep = full(KNOWN, 1)
-        before = state(keep)
+        before = keep_state(keep)
         self.assertEqual(keep.fall(()), ())
-        self.assertEqual(state(keep), before)
+        self.assertEqual(keep_state(keep), before)
 
     def test_each_fall_of_small_rings_against_the_words(self):
         for ring in list(all_rings(3))[::2]:
@@ -289,7 +278,7 @@ class Fall(unittest.TestCase):
                     for copies in (1, 2, 4):
                         keep, walked = full(ring, copies), full(ring, copies, WalkedKeep)
                         self.assertEqual(keep.fall(hands), walked.fall(hands))
-                        self.assertEqual(state(keep), state(walked))
+                        self.assertEqual(keep_state(keep), keep_state(walked))
 
     def test_what_was_lost_before_is_not_told_again(self):
         keep = Keep(KNOWN, 1)
@@ -301,45 +290,29 @@ class Fall(unittest.TestCase):
 
     def test_refused_fall_changes_nothing(self):
         keep = full(KNOWN, 2)
-        before = state(keep)
+        before = keep_state(keep)
         for hands in ((1,), (0, 1), (1, 3), (3, 5, 15), (-1, 0), (0, 16), (0, 3, 5, 9, 14), (0, 3, 5, 9, 14, 15)):
             with self.assertRaises(NoHand) as caught:
                 keep.fall(hands)
             self.assertNotIsInstance(caught.exception, NoKey)
-            self.assertEqual(state(keep), before)
+            self.assertEqual(keep_state(keep), before)
         alone = full((3, (5,)), 2)
-        before = state(alone)
+        before = keep_state(alone)
         self.assertRaises(NoHand, alone.fall, (5,))
-        self.assertEqual(state(alone), before)
+        self.assertEqual(keep_state(alone), before)
 
 
 class RowsOfActs(unittest.TestCase):
-    def choose(self, choice, ring):
-        """An act that is not refused."""
-        acts = ["put", "put", "mend", "fall"]
-        acts += ["come"] if free_spots(ring) else []
-        acts += ["go"] if len(ring[1]) > 1 else []
-        act = choice.choice(acts)
-        if act == "put":
-            return act, (choice.randrange(spots_of(ring)), choice.randrange(-99, 99))
-        if act == "come":
-            return act, (choice.choice(free_spots(ring)),)
-        if act == "go":
-            return act, (choice.choice(ring[1]),)
-        if act == "fall":
-            return act, (tuple(sorted(choice.sample(ring[1], choice.randrange(min(4, len(ring[1])))))),)
-        return act, ()
-
     def test_against_the_words_step_by_step(self):
         choice = random.Random(5)
         for ring in small_rings()[::6] + MIDDLE:
             for copies in range(1, 7):
                 keep, walked = full(ring, copies), full(ring, copies, WalkedKeep)
                 for _ in range(14):
-                    act, given = self.choose(choice, keep.ring())
+                    act, given = choose_act(choice, keep.ring())
                     told = getattr(keep, act)(*given)
                     self.assertEqual(told, getattr(walked, act)(*given), (act, given))
-                    self.assertEqual(state(keep), state(walked))
+                    self.assertEqual(keep_state(keep), keep_state(walked))
 
     def test_larger_rings_against_the_words(self):
         choice = random.Random(6)
@@ -347,9 +320,9 @@ class RowsOfActs(unittest.TestCase):
             copies = choice.randrange(1, 7)
             keep, walked = full(ring, copies), full(ring, copies, WalkedKeep)
             for _ in range(4):
-                act, given = self.choose(choice, keep.ring())
+                act, given = choose_act(choice, keep.ring())
                 self.assertEqual(getattr(keep, act)(*given), getattr(walked, act)(*given), (act, given))
-            self.assertEqual(state(keep), state(walked))
+            self.assertEqual(keep_state(keep), keep_state(walked))
 
     def test_ring_behind_each_act(self):
         keep = full(KNOWN, 2)

@@ -4,7 +4,9 @@ import unittest
 
 from ringkeep.errors import NoHand, NoKey
 from ringkeep.rings import came, holders, home_of, how_far, is_ring, next_hand, span_of, went
-from tests.walks import all_rings, hands_met, homes, large_rings, rings_beyond, small_rings, spots_of, step, steps_between
+from tests.walks import (
+    all_rings, free_spots, hands_met, homes, large_rings, rings_beyond, small_rings, spots_of, step, steps_between,
+)
 
 ALL = small_rings() + large_rings() + rings_beyond()
 
@@ -123,12 +125,9 @@ class ComingAndGoing(unittest.TestCase):
         self.assertEqual(went((3, (1, 4, 6)), 4), (3, (1, 6)))
         self.assertEqual(went((3, (1, 4, 6)), 6), (3, (1, 4)))
 
-    def free_spots(self, ring):
-        return [spot for spot in range(spots_of(ring)) if spot not in ring[1]]
-
     def test_came_is_the_ring_with_a_hand_more(self):
         for ring in ALL:
-            for spot in self.free_spots(ring):
+            for spot in free_spots(ring):
                 more = came(ring, spot)
                 self.assertEqual(more, (ring[0], tuple(sorted(ring[1] + (spot,)))))
                 self.assertEqual(went(more, spot), ring)
@@ -144,7 +143,7 @@ class ComingAndGoing(unittest.TestCase):
     def test_keys_move_to_the_one_that_comes_alone(self):
         for ring in ALL:
             before = [home_of(ring, key) for key in range(spots_of(ring))]
-            for spot in self.free_spots(ring):
+            for spot in free_spots(ring):
                 more = came(ring, spot)
                 after = [home_of(more, key) for key in range(spots_of(ring))]
                 for old, new in zip(before, after):
@@ -192,7 +191,7 @@ class ComingAndGoing(unittest.TestCase):
 
     def test_no_hand_of_a_hand_that_is_not_there(self):
         for ring in ALL:
-            for hand in self.free_spots(ring) + [-1, spots_of(ring), ring[1][0] + spots_of(ring)]:
+            for hand in free_spots(ring) + [-1, spots_of(ring), ring[1][0] + spots_of(ring)]:
                 with self.assertRaises(NoHand):
                     went(ring, hand)
 

@@ -3,19 +3,26 @@
 import copy
 import unittest
 
+from ringkeep.books import Book, reads_needed
+from ringkeep.changes import all_kept, change, least_moves, replayed
+from ringkeep.crews import best_spot, even_ring, loads, name_of, names_for, ring_of
 from ringkeep.crowds import Crowd
-from ringkeep.errors import NoKey
+from ringkeep.errors import NoHand, NoKey
 from ringkeep.keeps import Keep
 from ringkeep.losses import count_losing, lost_by, safe_falls
 from ringkeep.rings import came, holders, home_of, how_far, is_ring, next_hand, span_of, went
 from ringkeep.routes import fingers, most_hops, route
-from tests.walks import large_rings, small_rings, spots_of
+from tests.walks import filled, free_spots, large_rings, small_rings, spots_of
 
 
 def calls_on(ring):
     """Every function with some arguments of the ring's, and the kind that it tells."""
+    return calls_of_rings(ring) + calls_of_crews(ring) + calls_of_changes(ring)
+
+
+def calls_of_rings(ring):
     hand = ring[1][-1]
-    free = [spot for spot in range(spots_of(ring)) if spot not in ring[1]]
+    free = free_spots(ring)
     calls = [(is_ring, (ring,), bool), (most_hops, (ring,), int), (next_hand, (ring, hand), int)]
     calls += [(span_of, (ring, hand), tuple), (fingers, (ring, hand), tuple)]
     for key in (0, 1, spots_of(ring) - 1):
@@ -27,6 +34,26 @@ def calls_on(ring):
     for copies in (1, 3):
         calls += [(lost_by, (ring, copies, ring[1][:3]), tuple), (safe_falls, (ring, copies), int)]
         calls.append((count_losing, (ring, copies, min(2, len(ring[1]))), int))
+    return calls
+
+
+def calls_of_crews(ring):
+    crew = (ring[1][::2],) + ((ring[1][1::2],) if len(ring[1]) > 1 else ())
+    calls = [(ring_of, (ring[0], crew), tuple), (loads, (ring[0], crew), tuple), (even_ring, (ring[0], 3), tuple)]
+    calls += [(name_of, (crew, hand), int) for hand in ring[1]]
+    calls += [(names_for, (ring[0], crew, key, 2), tuple) for key in (0, spots_of(ring) - 1)]
+    calls += [(best_spot, (ring,), tuple)] if free_spots(ring) else []
+    calls += [(reads_needed, (5, 3, 1), int)]
+    return calls
+
+
+def calls_of_changes(ring):
+    keep = filled(Keep(ring, 2))
+    kept = all_kept(keep)
+    other = (ring[0], (0, spots_of(ring) - 2, spots_of(ring) - 1))
+    paper = change(keep, other[1])
+    calls = [(replayed, (kept, paper), tuple), (replayed, (kept, ()), tuple)]
+    calls += [(least_moves, (ring, other, copies, (0, 3, 1)), int) for copies in (1, 3)]
     return calls
 
 
@@ -78,7 +105,7 @@ class Values(Plain):
 
 def asked_of_keep(keep, ring):
     hands = keep.ring()[1]
-    calls = [(keep.ring, (), tuple)]
+    calls = [(keep.ring, (), tuple), (all_kept, (keep,), tuple)]
     calls += [(keep.has, (hand,), tuple) for hand in hands]
     for key in range(0, spots_of(ring), 3):
         calls += [(keep.keepers, (key,), tuple)] + ([(keep.get, (key,), int)] if keep.keepers(key) else [])
@@ -92,12 +119,14 @@ def acts_of_keep(keep, ring):
     if len(ring[1]) > 2:
         yield keep.fall, (ring[1][:2],), tuple
     yield keep.mend, (), tuple
-    free = [spot for spot in range(spots_of(ring)) if spot not in keep.ring()[1]]
+    free = free_spots(keep.ring())
     if free:
         yield keep.come, (free[0],), tuple
     if len(keep.ring()[1]) > 1:
         yield keep.go, (keep.ring()[1][-1],), tuple
     yield keep.put, (0, 99), type(None)
+    yield change, (keep, (1, 3)), tuple
+    yield keep.put, (1, 98), type(None)
 
 
 def asked_of_crowd(crowd, ring):
@@ -118,12 +147,38 @@ def acts_of_crowd(crowd, ring):
         yield crowd.tidy, (hand,), type(None)
 
 
-class KeepsAndCrowds(Plain):
+def kept_in_book(book, ring):
+    """The keys that a reader of all their holders finds."""
+    keys = []
+    for key in range(0, spots_of(ring), 3):
+        try:
+            book.read(key, holders(ring, key, 2))
+            keys.append(key)
+        except NoKey:
+            pass
+    return keys
+
+
+def asked_of_book(book, ring):
+    return [(book.read, (key, holders(ring, key, 2)), tuple) for key in kept_in_book(book, ring)]
+
+
+def acts_of_book(book, ring):
+    for key in range(0, spots_of(ring), 3):
+        yield book.write, (key, key - 5, holders(ring, key, 2)), int
+    yield book.forget, (ring[1][0],), type(None)
+    for key in kept_in_book(book, ring):
+        yield book.spread, (key,), type(None)
+        yield book.write, (key, 7, holders(ring, key, 2)[-1:]), int
+
+
+class KeepsCrowdsAndBooks(Plain):
     def each(self):
-        """A new keep and a new crowd of each ring, with what may be asked of them and done to them."""
+        """A new keep, crowd and book of each ring, with what may be asked of them and done to them."""
         for ring in self.rings:
             yield ring, Keep(ring, 2), asked_of_keep, acts_of_keep
             yield ring, Crowd(ring, 2), asked_of_crowd, acts_of_crowd
+            yield ring, Book(ring, 2), asked_of_book, acts_of_book
 
     def tell(self, act, given, kind):
         told = act(*given)
@@ -167,6 +222,12 @@ class KeepsAndCrowds(Plain):
         keep = Keep((3, (1, 5)), 1)
         for _ in range(3):
             self.assertRaises(NoKey, keep.get, 4)
+        book = Book((3, (1, 5)), 1)
+        for _ in range(3):
+            self.assertRaises(NoKey, book.read, 4, (5,))
+            self.assertRaises(NoKey, book.spread, 4)
+            self.assertRaises(NoHand, book.read, 4, (1,))
+            self.assertRaises(NoHand, change, keep, (8,))
 
 
 if __name__ == "__main__":

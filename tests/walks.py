@@ -1,5 +1,5 @@
-"""What the tests measure the program by: walks round a ring, one step at a time, rings to walk, and keeps and crowds by
-the document's own words, made of such walks alone."""
+"""What the tests measure the program by: walks round a ring, one step at a time, rings to walk, and keeps, crowds and
+books by the document's own words, made of such walks alone."""
 
 import itertools
 import random
@@ -69,6 +69,40 @@ def rings_beyond():
     return [(1, (0,)), (1, (1,)), (1, (0, 1)), (8, (255,)), (8, (0, 1, 100, 255)), (9, (3, 300, 511))]
 
 
+def free_spots(ring):
+    return [spot for spot in range(spots_of(ring)) if spot not in ring[1]]
+
+
+def filled(keep):
+    """The keep, with every key put."""
+    for key in range(spots_of(keep.ring())):
+        keep.put(key, 100 + key)
+    return keep
+
+
+def keep_state(keep):
+    """All that can be asked of a keep."""
+    ring = keep.ring()
+    return ring, tuple(keep.has(hand) for hand in ring[1]), tuple(keep.keepers(key) for key in range(spots_of(ring)))
+
+
+def choose_act(choice, ring):
+    """An act on a keep with this ring that is not refused: its name, and what is handed in."""
+    acts = ["put", "put", "mend", "fall"]
+    acts += ["come"] if free_spots(ring) else []
+    acts += ["go"] if len(ring[1]) > 1 else []
+    act = choice.choice(acts)
+    if act == "put":
+        return act, (choice.randrange(spots_of(ring)), choice.randrange(-99, 99))
+    if act == "come":
+        return act, (choice.choice(free_spots(ring)),)
+    if act == "go":
+        return act, (choice.choice(ring[1]),)
+    if act == "fall":
+        return act, (tuple(sorted(choice.sample(ring[1], choice.randrange(min(4, len(ring[1])))))),)
+    return act, ()
+
+
 def walked_on(ring, spot, many):
     """The spot that is so many steps behind a spot."""
     for _ in range(many):
@@ -77,7 +111,7 @@ def walked_on(ring, spot, many):
 
 
 class WalkedKeep:
-    """Points 3.1 to 3.3. What is kept is a dict of (hand, key) and value."""
+    """Points 3.1 to 3.3, and change of 8.2. What is kept is a dict of (hand, key) and value."""
 
     def __init__(self, ring, copies):
         self.now = ring
@@ -138,6 +172,13 @@ class WalkedKeep:
         rest = self.without((hand,))
         paper = self.mend(rest)
         self.now = rest
+        return paper
+
+    def change(self, hands):
+        target = (self.now[0], hands)
+        self.now = (self.now[0], tuple(sorted(set(self.now[1]) | set(hands))))
+        paper = self.mend(target)
+        self.now = target
         return paper
 
     def fall(self, hands):
@@ -236,3 +277,45 @@ class WalkedCrowd:
             self.row[hand] == self.row_when_new(hand) and self.finger[hand] == self.finger_when_new(hand)
             for hand in self.stand
         )
+
+
+class WalkedBook:
+    """Point 6.1. What is kept is a dict of (hand, key) and pair, and how often a key was written is counted in the row
+    of all keys that were; what is refused is told by its name."""
+
+    def __init__(self, ring, copies):
+        self.ring = ring
+        self.copies = copies
+        self.kept = {}
+        self.row = []
+
+    def holders(self, key):
+        return hands_met(self.ring, key)[:self.copies]
+
+    def write(self, key, value, some):
+        if not set(some) <= set(self.holders(key)):
+            return "NoHand"
+        self.row.append(key)
+        for hand in some:
+            self.kept[(hand, key)] = (self.row.count(key), value)
+        return self.row.count(key)
+
+    def read(self, key, some):
+        if not set(some) <= set(self.holders(key)):
+            return "NoHand"
+        pairs = [self.kept[(hand, key)] for hand in some if (hand, key) in self.kept]
+        return max(pairs, key=lambda pair: pair[0]) if pairs else "NoKey"
+
+    def forget(self, hand):
+        if hand not in self.ring[1]:
+            return "NoHand"
+        self.kept = {place: pair for place, pair in self.kept.items() if place[0] != hand}
+        return None
+
+    def spread(self, key):
+        pair = self.read(key, self.holders(key))
+        if pair == "NoKey":
+            return pair
+        for hand in self.holders(key):
+            self.kept[(hand, key)] = pair
+        return None
